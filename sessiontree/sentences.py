@@ -4,7 +4,7 @@ A world is one list: the values of its cells, and its chance behind them. So the
 is how many cells there are, which is also the number that the answers give it among what changed.
 """
 
-from sessiontree.texts import BLANK, number_in, parts_between
+from sessiontree.texts import numbers_behind
 
 MOST = 1000000000
 CHANCE_FACTOR = 6364136223846793005
@@ -17,31 +17,22 @@ HOW_MANY_CELLS = {"set": 1, "add": 1, "take": 1, "move": 2, "swap": 2, "roll": 1
 
 
 # named are those of its numbers that name cells: what it tells, and what must be there, goes by these.
+# A number is written in one way alone, so the text that was read is also the one to be saved.
 class Sentence:
-    def __init__(self, word, numbers):
+    def __init__(self, text, word, numbers):
+        self.text = text
         self.word = word
         self.numbers = numbers
         self.named = numbers[:HOW_MANY_CELLS[word]]
 
 
-def word_in(part):
-    """The sentence's word that the part is, None if it is none."""
-    for word in HOW_MANY_NUMBERS:
-        if [ord(sign) for sign in word] == part:
-            return word
-    return None
-
-
 def read_sentence(text):
     """The sentence that the text is, None if it is none."""
-    parts = parts_between(text, BLANK)
-    word = word_in(parts[0])
-    if word is None or len(parts) != 1 + HOW_MANY_NUMBERS[word]:
-        return None
-    numbers = [number_in(part, MOST) for part in parts[1:]]
-    if None in numbers:
-        return None
-    return Sentence(word, numbers)
+    for word in HOW_MANY_NUMBERS:
+        numbers = numbers_behind(word, text, [MOST] * HOW_MANY_NUMBERS[word])
+        if numbers is not None:
+            return Sentence(text, word, numbers)
+    return None
 
 
 def set_cell(world, numbers):
@@ -109,6 +100,15 @@ def world_behind(sentence, world):
     return behind
 
 
+def world_behind_all(sentences, world):
+    """The world that the sentences bring from this one in order, None if the story refuses one of them."""
+    for sentence in sentences:
+        world = world_behind(sentence, world)
+        if world is None:
+            return None
+    return world
+
+
 def told_by(sentence, world):
     """What the sentence tells where this is the world behind it."""
     return [world[cell] for cell in sentence.named]
@@ -121,3 +121,38 @@ def changes_between(before, behind):
         if value != behind[place]:
             changes.append((place, value, behind[place]))
     return changes
+
+
+def looked_at_by(sentence, chance):
+    """The places of a world that the sentence looks at, where chance is the place of the chance."""
+    if sentence.word == "set":
+        return []
+    if sentence.word == "roll":
+        return [chance]
+    return sentence.named
+
+
+def changed_by(sentence, chance):
+    """The places of a world that the sentence may change, where chance is the place of the chance."""
+    if sentence.word == "roll":
+        return sentence.named + [chance]
+    return sentence.named
+
+
+def ways_touch(added, passed, chance):
+    """Whether an added sentence may change what a passed one looks at or may change, or looks at what it may change."""
+    looked_at = {}
+    changed = {}
+    for sentence in passed:
+        for place in looked_at_by(sentence, chance):
+            looked_at[place] = True
+        for place in changed_by(sentence, chance):
+            changed[place] = True
+    for sentence in added:
+        for place in looked_at_by(sentence, chance):
+            if place in changed:
+                return True
+        for place in changed_by(sentence, chance):
+            if place in looked_at or place in changed:
+                return True
+    return False

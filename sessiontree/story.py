@@ -1,15 +1,18 @@
 """The calls on a session, and their answers."""
 
 from sessiontree.calls import LOAD, NEW, read_calls
-from sessiontree.refusals import NO_PLACE, NO_SESSION, NOT_THERE, OUT_OF_RANGE
-from sessiontree.sentences import read_sentence, told_by, world_behind
-from sessiontree.tree import ROOT, Session
+from sessiontree.refusals import HERE_WOULD_GO, NO_PLACE, NO_SAVE, NO_SESSION, NOT_THERE, OUT_OF_RANGE
+from sessiontree.refusals import WAYS_TOUCH, WRONG_SUM
+from sessiontree.saves import read_save, save_of
+from sessiontree.sentences import changes_between, read_sentence, told_by, ways_touch, world_behind, world_behind_all
+from sessiontree.texts import sum_of
+from sessiontree.transcripts import transcript_of, wrong_line
+from sessiontree.tree import ROOT, Session, may_begin, shared_length
 
-MOST_CELLS = 16
-MOST_TOLD = 1000000000000000000
+MOST_STEPS = 1000000000000000000
 
 
-# What the calls of one list are made on; new puts another session in the place of the one before.
+# What the calls of one list are made on; new and load put another session in the place of the one before.
 class Story:
     def __init__(self):
         self.session = None
@@ -18,7 +21,7 @@ class Story:
 def answer_new(story, call):
     cells = call.numbers[0]
     seed = call.numbers[1]
-    if cells < 1 or cells > MOST_CELLS or seed < 0 or seed > MOST_TOLD:
+    if not may_begin(cells, seed):
         return [OUT_OF_RANGE]
     story.session = Session(cells, seed)
     return [0]
@@ -32,7 +35,7 @@ def answer_say(story, call):
     behind = world_behind(sentence, session.world)
     if behind is None:
         return [NOT_THERE]
-    if not session.has_place():
+    if not session.has_place_for(1):
         return [NO_PLACE]
     session.say(sentence, behind)
     return [0, session.here] + told_by(sentence, session.world)
@@ -41,7 +44,7 @@ def answer_say(story, call):
 def answer_undo(story, call):
     session = story.session
     steps = call.numbers[0]
-    if steps < 1 or steps > MOST_TOLD:
+    if steps < 1 or steps > MOST_STEPS:
         return [OUT_OF_RANGE]
     if steps > len(session.way_to(session.here)):
         return [NOT_THERE]
@@ -85,14 +88,94 @@ def answer_children(story, call):
     return [0] + story.session.nodes[number].children
 
 
+def told_changes(changes):
+    """The answer that tells the changes, number by number."""
+    answer = [0]
+    for change in changes:
+        answer.extend(change)
+    return answer
+
+
 def answer_delta(story, call):
     number = call.numbers[0]
     if number == ROOT or number not in story.session.nodes:
         return [NOT_THERE]
-    answer = [0]
-    for change in story.session.nodes[number].changes:
-        answer.extend(change)
-    return answer
+    return told_changes(story.session.nodes[number].changes)
+
+
+def answer_diff(story, call):
+    session = story.session
+    before = call.numbers[0]
+    behind = call.numbers[1]
+    if before not in session.nodes or behind not in session.nodes:
+        return [NOT_THERE]
+    return told_changes(changes_between(session.world_at(before), session.world_at(behind)))
+
+
+def answer_merge(story, call):
+    session = story.session
+    number = call.numbers[0]
+    if number not in session.nodes:
+        return [NOT_THERE]
+    way_here = session.way_to(session.here)
+    way_there = session.way_to(number)
+    shared = shared_length(way_here, way_there)
+    added = session.sentences_of(way_there[shared:])
+    if not session.has_place_for(len(added)):
+        return [NO_PLACE]
+    if ways_touch(added, session.sentences_of(way_here[shared:]), session.cells):
+        return [WAYS_TOUCH]
+    # What they look at is here as it was where they were said, so the story refuses none of them.
+    session.say_all(added)
+    return [0, session.here, len(added)]
+
+
+def answer_save(story, call):
+    session = story.session
+    return [0] + save_of(session.cells, session.seed, session.sentences_of(session.way_to(session.here)))
+
+
+def answer_load(story, call):
+    save = read_save(call.text)
+    if save is None:
+        return [NO_SAVE]
+    if not save.sum_is_right:
+        return [WRONG_SUM]
+    session = Session(save.cells, save.seed)
+    # A sentence beyond the last that has place is held against the story too: its refusal is nearer to 0.
+    if world_behind_all(save.sentences, session.first_world) is None:
+        return [NOT_THERE]
+    if not session.has_place_for(len(save.sentences)):
+        return [NO_PLACE]
+    session.say_all(save.sentences)
+    story.session = session
+    return [0, session.here]
+
+
+def answer_sum(story, call):
+    return [0, sum_of(call.text)]
+
+
+def answer_script(story, call):
+    session = story.session
+    return [0] + transcript_of(session.sentences_of(session.way_to(session.here)), session.first_world)
+
+
+def answer_hold(story, call):
+    line = wrong_line(call.text, story.session.first_world)
+    if line is None:
+        return [0, 1]
+    return [0, 0, line]
+
+
+def answer_prune(story, call):
+    session = story.session
+    number = call.numbers[0]
+    if number == ROOT or number in session.way_to(session.here):
+        return [HERE_WOULD_GO]
+    if number not in session.nodes:
+        return [NOT_THERE]
+    return [0, session.prune(number)]
 
 
 ANSWERS = {
@@ -105,6 +188,14 @@ ANSWERS = {
     6: answer_path,
     7: answer_children,
     8: answer_delta,
+    9: answer_diff,
+    10: answer_merge,
+    11: answer_save,
+    12: answer_load,
+    13: answer_sum,
+    14: answer_script,
+    15: answer_hold,
+    16: answer_prune,
 }
 
 
@@ -112,8 +203,6 @@ def answer_to(story, call):
     """The answer to one call: a 0 and what the call tells, or a refusal's number alone."""
     if story.session is None and call.number != NEW and call.number != LOAD:
         return [NO_SESSION]
-    if call.number not in ANSWERS:
-        raise NotImplementedError("this call is not built yet")
     answer = ANSWERS[call.number]
     return answer(story, call)
 

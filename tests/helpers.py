@@ -11,13 +11,17 @@ def bytes_of(text):
     return list(text.encode("ascii")) if isinstance(text, str) else list(text)
 
 
+def with_text(number, text):
+    row = bytes_of(text)
+    return [number, len(row)] + row
+
+
 def new(cells, seed=0):
     return [0, cells, seed]
 
 
 def say(text):
-    row = bytes_of(text)
-    return [1, len(row)] + row
+    return with_text(1, text)
 
 
 def undo(k):
@@ -36,9 +40,56 @@ def delta(node):
     return [8, node]
 
 
+def diff(a, b):
+    return [9, a, b]
+
+
+def merge(node):
+    return [10, node]
+
+
+def load(text):
+    return with_text(12, text)
+
+
+def total(text):
+    return with_text(13, text)
+
+
+def hold(text):
+    return with_text(15, text)
+
+
+def prune(node):
+    return [16, node]
+
+
 REDO = [3]
 STATE = [5]
 PATH = [6]
+SAVE = [11]
+SCRIPT = [14]
+
+
+def sum_by_hand(text):
+    """The sum of the bytes of a text, added up backwards."""
+    row = bytes_of(text)
+    result = 0
+    for place in range(len(row), 0, -1):
+        result = (result + place * row[place - 1]) % 65521
+    return result
+
+
+def summed(body):
+    """The body of a save with its right sum behind it."""
+    return f"{body}sum {sum_by_hand(body)}\n"
+
+
+def text_of(answer):
+    """The text that an answer tells behind its 0."""
+    if answer[0] != 0:
+        raise AssertionError(f"refused with {answer}")
+    return bytes(answer[1:]).decode("ascii")
 
 
 def row_of(calls):
